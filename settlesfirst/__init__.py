@@ -1,0 +1,1 @@
+"""Settlesfirst: who came first, settled without waiting."""
