@@ -2,8 +2,13 @@
 
 import unittest
 
-from settlesfirst.makers import box, counter, is_box, keep, ladder
+from settlesfirst.layouts import Layout
+from settlesfirst.makers import box, counter, is_box, keep, ladder, swap
+from settlesfirst.power import endless, how_many, least_deeds, most, power, serving
+from settlesfirst.programs import Program
+from settlesfirst.telling import answers_tell, blotted, is_blot, is_unseen, shortest_blot, states_tell, tells, verdict
 from settlesfirst.things import Thing, is_fold
+from tests.values import switch
 
 
 class StageOne(unittest.TestCase):
@@ -26,6 +31,44 @@ class StageOne(unittest.TestCase):
 
     def test_a_ladder(self):
         self.assertEqual(ladder(3).states, 7)
+
+
+class StageTwo(unittest.TestCase):
+    def test_layouts(self):
+        pair = Layout(switch(), 0, ["set"], ["set"])
+        told = [list(pair.orders()), pair.behind([1, 0]), pair.mark(0, [1, 0]), pair.marks(0), pair.ends(1)]
+        self.assertEqual(told, [[[0], [1], [0, 1], [1, 0]], ([0, 1], 1), (1, 1), {(0, 1): [0], (1, 1): [1]}, [1]])
+        self.assertEqual(repr(pair), "Layout(Thing(['set'], [[(0, 1)], [(1, 1)]]), 0, ['set'], ['set'])")
+
+
+class StageThree(unittest.TestCase):
+    def test_telling(self):
+        pair = Layout(switch(), 0, ["set"], ["set"])
+        three = pair.with_hand(1, "set")
+        told = [tells(pair), tells(three), blotted(three), shortest_blot(three), is_blot(three, (1, [0, 1], [2, 1]))]
+        self.assertEqual(told, [True, False, [1, 2], 4, True])
+        told = [verdict(pair, 0, (0, 1)), answers_tell(pair, 0), states_tell(pair),
+                is_unseen(switch(), 0, "set", "set"), is_unseen(box(["x", "y"]), 0, "x", "y")]
+        self.assertEqual(told, [0, True, False, False, True])
+
+
+class StageFour(unittest.TestCase):
+    def test_power(self):
+        kept = keep(["x", "y"])
+        told = [power(switch()), power(kept), power(ladder(3)), power(box(["x", "y"])), power(swap(["x", "y"])),
+                power(counter(3))]
+        self.assertEqual(told, [2, 4, 3, 1, 2, 2])
+        told = [most(switch(), 0, "set", "set"), endless(kept), how_many(kept, 3), least_deeds(kept, 2),
+                serving(kept, 4)]
+        self.assertEqual(told, [1, [(0, "x", "y"), (0, "y", "x")], 2, [["x", "y"]], [0]])
+
+
+class StageFive(unittest.TestCase):
+    def test_a_race(self):
+        scripts = [[("do", 0, "set", {0: 1, 1: 2}), ("end", 0), ("end", 1)],
+                   [("do", 0, "set", {0: 1, 1: 2}), ("end", 1), ("end", 0)]]
+        race = Program([(switch(), 0)], scripts)
+        self.assertEqual(([race.script(0), race.script(1)], race.hands, len(race)), (scripts, 2, 6))
 
 
 if __name__ == "__main__":

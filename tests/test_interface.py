@@ -8,6 +8,18 @@ FUNCTIONS = {
     "things": {"is_fold": ["one", "other", "states", "deeds", "answers"]},
     "makers": {"box": ["names"], "keep": ["names"], "swap": ["names"], "counter": ["size"], "ladder": ["size"],
                "is_box": ["thing"]},
+    "telling": {
+        "tells": ["layout"], "blot": ["layout"], "is_blot": ["layout", "value"], "blotted": ["layout"],
+        "shortest_blot": ["layout"], "verdict": ["layout", "hand", "mark"], "verdicts": ["layout"],
+        "answers_tell": ["layout", "hand"], "states_tell": ["layout"], "commute": ["thing", "state", "one", "other"],
+        "covers": ["thing", "state", "one", "other"], "is_unseen": ["thing", "state", "one", "other"],
+    },
+    "power": {
+        "telling_layouts": ["thing", "number"], "how_many": ["thing", "number"], "first_layout": ["thing", "number"],
+        "power": ["thing"], "serving": ["thing", "number"], "least_deeds": ["thing", "number"],
+        "most": ["thing", "state", "one", "other"], "endless": ["thing"], "is_endless": ["thing"],
+        "least_bars": ["thing", "number"], "bars": ["thing", "number"], "are_bars": ["thing", "number", "value"],
+    },
 }
 
 CLASSES = {
@@ -19,9 +31,28 @@ CLASSES = {
             "__repr__": None,
         },
     },
+    "layouts": {
+        "Layout": {
+            "__init__": ["thing", "state", "first", "second"], "deed": ["hand"], "team": ["hand"], "orders": [],
+            "how_many_orders": [], "behind": ["order"], "mark": ["hand", "order"], "marks": ["hand"],
+            "ends": ["team"], "without": ["hand"], "with_hand": ["team", "deed"], "__invert__": [], "lesser": [],
+            "is_within": ["other"], "is_ahead_of": ["other"], "__len__": None, "__eq__": None, "__repr__": None,
+        },
+    },
+    "programs": {
+        "Program": {"__init__": ["things", "scripts"], "script": ["hand"], "__len__": None, "__eq__": None},
+    },
 }
 
-PROPERTIES = {"things": {"Thing": ["deeds", "states"]}}
+STATIC = {"layouts": {"Layout": {"of_two": ["thing", "state", "one", "other"]}}}
+
+PROPERTIES = {
+    "things": {"Thing": ["deeds", "states"]},
+    "layouts": {"Layout": ["thing", "state", "first", "second", "hands"]},
+    "programs": {"Program": ["things", "hands"]},
+}
+
+GENERATORS = [("layouts", "Layout", "orders"), ("power", None, "telling_layouts")]
 
 
 def module(name):
@@ -49,6 +80,19 @@ class Interface(unittest.TestCase):
                     self.assertIn(method, vars(found), told)
                     if arguments is not None:
                         self.assertEqual(parameters(vars(found)[method])[1:], arguments, method)
+
+    def test_static_methods_stand_in_the_class_itself(self):
+        for name, classes in STATIC.items():
+            for told, methods in classes.items():
+                for method, arguments in methods.items():
+                    found = vars(vars(module(name))[told])[method]
+                    self.assertIsInstance(found, staticmethod, method)
+                    self.assertEqual(parameters(found.__func__), arguments, method)
+
+    def test_generators(self):
+        for name, told, function in GENERATORS:
+            place = vars(module(name)) if told is None else vars(vars(module(name))[told])
+            self.assertTrue(inspect.isgeneratorfunction(place[function]), function)
 
     def test_properties_stand_in_the_class_itself(self):
         for name, classes in PROPERTIES.items():
