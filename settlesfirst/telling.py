@@ -97,7 +97,6 @@ def verdict(layout, hand, mark):
 
 def answers_tell(layout, hand):
     """Whether no answer of the hand's deed comes in orders that begin with unlike teams."""
-    check_hand(hand, layout.hands)
     begun = {}
     for (answer, _), teams in layout.marks(hand).items():
         for team in teams:

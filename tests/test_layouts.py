@@ -276,6 +276,8 @@ class OneHandLessOrMore(unittest.TestCase):
         self.assertEqual(raised(layout.without, 0), (LastOne, {"value": 0}))
         self.assertEqual([layout.without(hand).hands for hand in (1, 2, 3)], [3, 3, 3])
         self.assertEqual(raised((~layout).without, 3), (LastOne, {"value": 3}))
+        self.assertEqual(raised(PAIR.without, 2), (InvalidHand, {"value": 2}))
+        self.assertEqual(raised(PAIR.without, True), (InvalidHand, {"value": True}))
         self.assertEqual([(~layout).without(hand).hands for hand in (0, 1, 2)], [3, 3, 3])
 
     def test_with_hand(self):

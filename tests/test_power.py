@@ -17,8 +17,10 @@ from tests import plain
 from tests.values import NO_INTEGERS, NO_NAMES, Equal, raised, some_things, switch
 
 KEPT = keep(["x", "y"])
+# At state 0 two hands of each deed do not tell: without one of the second deed they do, without one of the first not.
+UNEVEN = Thing(["x", "y"], [[(0, 4), (0, 1)], [(0, 1), (0, 0)], [(0, 1), (0, 3)], [(0, 0), (0, 4)], [(0, 4), (0, 4)]])
 WELL_KNOWN = [switch(), KEPT, keep(["x"]), box(["x", "y"]), swap(["x", "y"]), counter(1), counter(3), ladder(1),
-              ladder(2), ladder(3)]
+              ladder(2), ladder(3), UNEVEN, UNEVEN.renamed({"x": "y", "y": "x"}), keep(["x", "y", "z"])]
 NO_NUMBERS = NO_INTEGERS + [1, 5, 0, -2, 10 ** 29]
 BY_NUMBER = [lambda thing, number: list(telling_layouts(thing, number)), how_many, first_layout, serving, least_deeds,
              least_bars, bars, lambda thing, number: are_bars(thing, number, [])]
@@ -234,6 +236,14 @@ class Endless(unittest.TestCase):
 
 
 class Bars(unittest.TestCase):
+    def test_a_bar_without_any_one_hand(self):
+        layout = Layout(UNEVEN, 0, ["x", "x"], ["y", "y"])
+        self.assertEqual([tells(layout), tells(layout.without(3)), tells(layout.without(0))], [False, True, False])
+        mirrored = Thing(["y", "x"], [[row[1], row[0]] for row in UNEVEN.rows()])
+        for thing in (UNEVEN, mirrored):
+            self.assertNotIn(Layout(thing, 0, ["x", "x"], ["y", "y"]).lesser(), least_bars(thing, 4))
+            self.assertEqual(least_bars(thing, 4), plain.least_bars(thing, 4))
+
     def test_least_bars(self):
         self.assertEqual(least_bars(switch(), 2), [Layout(switch(), 1, ["set"], ["set"])])
         self.assertEqual(least_bars(switch(), 4), [Layout(switch(), 1, ["set"], ["set"]),

@@ -138,8 +138,11 @@ class WrongScripts(unittest.TestCase):
         nodes = [None, 0, True, "", "end", [], (), {}, Equal(), list(END), list(PLAIN[0]), ("end",), ("do",), ("look",),
                  ("END", 0), ("stop", 0), ("", 0), (0, 0), (None, 0), (Equal(), 0), (b"end", 0), ("end", 0, 0),
                  ("do", 0, "set", {0: 2}, 0), ("do", 0, "set"), ("do", 0, {0: 2}), ("do", 0, "set", 0, {0: 2}),
-                 ("look", 0, {0: 2}, 0), ("look", 0), ("look", {0: 2}), ("look", 0, "set", {0: 2}), ("look", 0, 0, {0: 2}),
-                 (["end"], 0), ("end", {0: 2}), ("end", 0, {0: 2}), (Equal(), 0, {0: 2}), (Equal(), 0, "set", {0: 2})]
+                 ("look", 0, {0: 2}, 0), ("look", 0), ("look", {0: 2}), ("look", 0, "set", {0: 2}),
+                 ("look", 0, 0, {0: 2}),
+                 ("stop", 0, {0: 2}), ("Look", 0, {0: 2}), ("stop", 0, "set", {0: 2}), ("Do", 0, "set", {0: 2}),
+                 ("do", 0, "set", {0: 2}, {0: 2}), ("look", 0, {0: 2}, {0: 2}), (["end"], 0), ("end", {0: 2}),
+                 ("end", 0, {0: 2}), (Equal(), 0, {0: 2}), (Equal(), 0, "set", {0: 2})]
         for node in nodes:
             script = [("look", 0, {0: 2}), node, END]
             self.assertEqual(wrong_script(script), (InvalidScripts, {"position": 2}), repr(node))
@@ -152,7 +155,8 @@ class WrongScripts(unittest.TestCase):
 
     def test_no_deed(self):
         for deed in NO_NAMES + ["x", "y"]:
-            self.assertEqual(wrong_script([("do", 0, deed, {0: 1}), END]), (InvalidScripts, {"position": 2}), repr(deed))
+            script = [("do", 0, deed, {0: 1}), END]
+            self.assertEqual(wrong_script(script), (InvalidScripts, {"position": 2}), repr(deed))
 
     def test_no_branches(self):
         for branches in NO_DICTS + [{}, [(0, 1)], [1]]:
