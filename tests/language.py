@@ -279,3 +279,35 @@ def defined_names(source):
         if isinstance(node, ast.Assign):
             found.append(node.targets[0].id)
     return found
+
+
+def function_names(source):
+    """The names of all functions and methods of a file."""
+    return [node.name for node in ast.walk(ast.parse(source)) if isinstance(node, ast.FunctionDef)]
+
+
+def generators(source):
+    """The names of the functions and methods of a file that yield."""
+    return [node.name for node in ast.walk(ast.parse(source)) if isinstance(node, ast.FunctionDef)
+            and any(isinstance(inner, (ast.Yield, ast.YieldFrom)) for inner in ast.walk(node))]
+
+
+def loose_generators(source, told):
+    """The lines in which a generator of these names is not iterated at once, or is passed more than names."""
+    tree = ast.parse(source)
+    at_once = []
+    for node in ast.walk(tree):
+        if isinstance(node, (ast.For, ast.comprehension)):
+            at_once.append(node.iter)
+        elif isinstance(node, ast.YieldFrom):
+            at_once.append(node.value)
+        elif isinstance(node, ast.Call) and getattr(node.func, "id", "") in ("list", "sum", "sorted"):
+            at_once.extend(node.args[:1])
+    found = []
+    for node in ast.walk(tree):
+        if isinstance(node, ast.Call):
+            name = getattr(node.func, "attr", getattr(node.func, "id", ""))
+            plain = all(isinstance(each, (ast.Name, ast.Attribute, ast.Constant)) for each in node.args)
+            if name in told and (node not in at_once or not plain):
+                found.append(node.lineno)
+    return found

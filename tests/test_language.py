@@ -49,6 +49,15 @@ class Files(unittest.TestCase):
             self.assertTrue(ready, "L16 a circle")
             done |= ready
 
+    def test_generators_are_iterated_at_once_and_have_names_of_their_own(self):
+        told = [each for name in files() for each in language.generators(source(name))]
+        defined = [each for name in files() for each in language.function_names(source(name))]
+        self.assertIn("telling_layouts", told)
+        for each in told:
+            self.assertEqual(defined.count(each), 1, each)
+        for name in files():
+            self.assertEqual(language.loose_generators(source(name), told), [], name)
+
     def test_what_is_imported_is_used(self):
         for name in files():
             text = source(name)
