@@ -2,13 +2,27 @@
 
 import unittest
 
+from settlesfirst.building import exchanged, is_made_of, program_of, settle, trimmed
 from settlesfirst.layouts import Layout
 from settlesfirst.makers import box, counter, is_box, keep, ladder, swap
+from settlesfirst.places import is_critical, layout_at, longest_open, next_names, outcomes
 from settlesfirst.power import endless, how_many, least_deeds, most, power, serving
 from settlesfirst.programs import Program
 from settlesfirst.telling import answers_tell, blotted, is_blot, is_unseen, shortest_blot, states_tell, tells, verdict
 from settlesfirst.things import Thing, is_fold
+from settlesfirst.weavings import (
+    behind, full_at, how_many_full, is_right, most_steps, named, quarrel, shortest_quarrel,
+)
 from tests.values import switch
+
+RACE_SCRIPTS = [
+    [("do", 0, "set", {0: 1, 1: 2}), ("end", 0), ("end", 1)],
+    [("do", 0, "set", {0: 1, 1: 2}), ("end", 1), ("end", 0)],
+]
+
+
+def race():
+    return Program([(switch(), 0)], RACE_SCRIPTS)
 
 
 class StageOne(unittest.TestCase):
@@ -65,10 +79,31 @@ class StageFour(unittest.TestCase):
 
 class StageFive(unittest.TestCase):
     def test_a_race(self):
-        scripts = [[("do", 0, "set", {0: 1, 1: 2}), ("end", 0), ("end", 1)],
-                   [("do", 0, "set", {0: 1, 1: 2}), ("end", 1), ("end", 0)]]
-        race = Program([(switch(), 0)], scripts)
-        self.assertEqual(([race.script(0), race.script(1)], race.hands, len(race)), (scripts, 2, 6))
+        told = [race().script(0), race().script(1)], race().hands, len(race())
+        self.assertEqual(told, (RACE_SCRIPTS, 2, 6))
+
+    def test_weavings(self):
+        told = [is_right(race()), behind(race(), [1]), named(race(), [1]), how_many_full(race()), full_at(race(), 1),
+                most_steps(race())]
+        self.assertEqual(told, [True, ((0, 1), (1,)), {1: 1}, 2, [1, 0], 2])
+        scripts = [[("do", 0, "set", {0: 1}), ("end", 0)], [("do", 0, "set", {0: 1}), ("end", 1)]]
+        self.assertEqual([quarrel(race()), shortest_quarrel(Program([(switch(), 0)], scripts))], [None, 2])
+
+
+class StageSix(unittest.TestCase):
+    def test_places(self):
+        pair = Layout(switch(), 0, ["set"], ["set"])
+        told = [outcomes(race(), []), outcomes(race(), [1]), is_critical(race(), []), next_names(race(), []),
+                layout_at(race(), []) == (0, pair, [0, 1]), longest_open(race())]
+        self.assertEqual(told, [[0, 1], [1], True, [0, 1], True, 0])
+
+
+class StageSeven(unittest.TestCase):
+    def test_building(self):
+        made = program_of(Layout(switch(), 0, ["set"], ["set"]))
+        told = [is_right(made), is_made_of(made, [switch()]), settle(switch(), 3), trimmed(race()) == race(),
+                exchanged(race(), [1, 0]) == race()]
+        self.assertEqual(told, [True, True, None, True, True])
 
 
 if __name__ == "__main__":

@@ -20,6 +20,22 @@ FUNCTIONS = {
         "most": ["thing", "state", "one", "other"], "endless": ["thing"], "is_endless": ["thing"],
         "least_bars": ["thing", "number"], "bars": ["thing", "number"], "are_bars": ["thing", "number", "value"],
     },
+    "weavings": {
+        "behind": ["program", "weaving"], "can_step": ["program", "weaving"], "named": ["program", "weaving"],
+        "is_bad": ["program", "weaving"], "is_right": ["program"], "quarrel": ["program"],
+        "is_quarrel": ["program", "value"], "shortest_quarrel": ["program"], "how_many_full": ["program"],
+        "full_at": ["program", "place"], "most_steps": ["program"], "all_names": ["program"],
+    },
+    "places": {
+        "outcomes": ["program", "weaving"], "is_open": ["program", "weaving"], "critical": ["program"],
+        "is_critical": ["program", "value"], "least_critical": ["program"], "longest_open": ["program"],
+        "next_names": ["program", "weaving"], "layout_at": ["program", "weaving"],
+    },
+    "building": {
+        "program_of": ["layout"], "settle": ["thing", "number"], "settle_by": ["things", "number"],
+        "is_made_of": ["program", "things"], "trimmed": ["program"], "exchanged": ["program", "order"],
+        "steps_of": ["program", "hand"],
+    },
 }
 
 CLASSES = {
