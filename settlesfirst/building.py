@@ -1,6 +1,6 @@
 """Programs that are built of layouts and things, and made out of other programs."""
 
-from settlesfirst.checks import check_hand, check_limit, check_number, misplaced
+from settlesfirst.checks import check_hand, check_limit, misplaced
 from settlesfirst.errors import InvalidOrder, InvalidThings, NotTelling
 from settlesfirst.kinds import is_filled_list, is_list
 from settlesfirst.makers import is_box
@@ -66,7 +66,6 @@ def settle(thing, number):
 def settle_by(things, number):
     """A right program for so many hands, made of some of these things; None if there is none."""
     check_things(things)
-    check_number(number)
     for thing in things:
         made = settle(thing, number)
         if made is not None:

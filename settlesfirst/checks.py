@@ -55,9 +55,14 @@ def check_hand(hand, hands):
         raise InvalidHand(hand)
 
 
+def is_number(value):
+    """Whether any value is a number of hands that a power may tell."""
+    return is_integer_from(value, FEWEST_HANDS, GREATEST_POWER)
+
+
 def check_number(number):
     """Raise InvalidNumber unless it is a number of hands that a power may tell."""
-    if not is_integer_from(number, FEWEST_HANDS, GREATEST_POWER):
+    if not is_number(number):
         raise InvalidNumber(number)
 
 

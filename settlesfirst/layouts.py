@@ -9,7 +9,7 @@ from settlesfirst.teams import are_teams_within
 from settlesfirst.things import check_deed, check_state
 from settlesfirst.walks import each_walk
 
-MOST_HANDS = 5
+MOST_IN_LAYOUT = 5
 
 
 class Layout:
@@ -19,7 +19,7 @@ class Layout:
         check_state(thing, state)
         check_deeds_of_team(thing, first)
         check_deeds_of_team(thing, second)
-        check_limit("hands", len(first) + len(second), MOST_HANDS)
+        check_limit("hands", len(first) + len(second), MOST_IN_LAYOUT)
         self._thing = thing
         self._state = state
         self._first = sorted_places(thing, first)

@@ -40,7 +40,7 @@ def counter(size):
     """The thing that counts so many states around, and answers the elder one."""
     if not is_integer_from(size, 1, MOST_STATES):
         raise InvalidNumber(size)
-    return made_thing(["add"], [[(state, (state + 1) % size)] for state in range(size)])
+    return made_thing(["add"], [[(state, 0 if state + 1 == size else state + 1)] for state in range(size)])
 
 
 def ladder(size):

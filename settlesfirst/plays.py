@@ -139,8 +139,8 @@ def graph_from(play, scene):
             if there not in found:
                 found[there] = None
                 ahead.append(there)
-    sequence = sorted(found, key=lambda each: sum(each[:play.many]))
-    return {here: found[here] for here in sequence}
+    sequence = sorted([(sum(here[:play.many]), here) for here in found])
+    return {here: found[here] for _, here in sequence}
 
 
 def is_graph_right(play, graph):

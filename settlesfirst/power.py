@@ -34,9 +34,14 @@ def first_layout(thing, number):
 
 def power(thing):
     """The greatest number of hands, at most 4, for which some layout tells; 1 if there is none."""
+    return greatest_number(thing, first_layout)
+
+
+def greatest_number(thing, first_of):
+    """The greatest number of hands, at most 4, for which first_of gives a layout of the thing; 1 if there is none."""
     found = 1
     for number in range(FEWEST_HANDS, GREATEST_POWER + 1):
-        if first_layout(thing, number) is None:
+        if first_of(thing, number) is None:
             return found
         found = number
     return found
@@ -70,6 +75,11 @@ def most(thing, state, one, other):
 
 def endless(thing):
     """All tuples (state, one, other) whose most is for all numbers, sorted."""
+    return triples(thing, is_for_all)
+
+
+def triples(thing, is_so):
+    """All tuples (state, one, other) for which is_so holds by the table, the state and the places; sorted."""
     rows = thing.rows()
     deeds = thing.deeds
     places = range(len(deeds))
@@ -78,8 +88,13 @@ def endless(thing):
         for state in range(len(rows))
         for one in places
         for other in places
-        if most_at(rows, state, one, other) is None
+        if is_so(rows, state, one, other)
     ]
+
+
+def is_for_all(rows, state, one, other):
+    """Whether the most is for all numbers."""
+    return most_at(rows, state, one, other) is None
 
 
 def is_endless(thing):
@@ -89,7 +104,7 @@ def is_endless(thing):
     for state in range(len(rows)):
         for one in places:
             for other in places:
-                if most_at(rows, state, one, other) is None:
+                if is_for_all(rows, state, one, other):
                     return True
     return False
 

@@ -40,9 +40,7 @@ class Thing:
 
     def __call__(self, state, deed):
         """The tuple (answer, next) of this deed at this state."""
-        check_state(self, state)
-        check_deed(self, deed)
-        return self._rows[state][self._deeds.index(deed)]
+        return entry_at(self, state, deed)
 
     def run(self, state, word):
         """The answers of the deeds of a word, and the state to which it leads."""
@@ -133,6 +131,34 @@ def made_thing(deeds, rows):
     made._deeds = deeds
     made._rows = rows
     return made
+
+
+def entry_at(thing, state, deed):
+    """The tuple (answer, next) of this deed at this state."""
+    check_state(thing, state)
+    check_deed(thing, deed)
+    return thing._rows[state][thing._deeds.index(deed)]
+
+
+def with_entry(thing, state, deed, entry):
+    """The Thing in which the deed has this tuple (answer, next) at the state."""
+    rows = thing.rows()
+    rows[state][thing._deeds.index(deed)] = (entry[0], entry[1])
+    return made_thing(thing.deeds, rows)
+
+
+def with_deed(thing, deed, entries):
+    """The Thing with one deed more, which has these tuples (answer, next) by the states."""
+    rows = [row + [(entry[0], entry[1])] for row, entry in zip(thing.rows(), entries)]
+    return made_thing(thing.deeds + [deed], rows)
+
+
+def without_deed(thing, deed):
+    """The Thing without this deed, which is not its only one."""
+    at = thing._deeds.index(deed)
+    deeds = thing.deeds
+    rows = [row[:at] + row[at + 1:] for row in thing.rows()]
+    return made_thing(deeds[:at] + deeds[at + 1:], rows)
 
 
 def is_state(thing, value):

@@ -101,7 +101,7 @@ def full_at(program, place):
         for hand, there in graph[here]:
             if left < ways[there]:
                 break
-            left -= ways[there]
+            left = left - ways[there]
         weaving.append(hand)
         here = there
     return weaving

@@ -58,7 +58,7 @@ def complaints(name, source):
         compile(source, name, "exec")
     found = text_complaints(source) + top_complaints(tree) + word_complaints(source)
     for node in ast.walk(tree):
-        for check in (bars, names, functions, classes, errors, calls, values):
+        for check in (bars, names, functions, classes, blocks_left, errors, calls, values):
             found += [(getattr(node, "lineno", 0), told) for told in check(node)]
     return [f"{name}:{line}: {told}" for line, told in sorted(found)]
 
@@ -205,6 +205,16 @@ def classes(node):
     return found
 
 
+def blocks_left(node):
+    """What stands in a method __exit__ must be plain: names and attributes that are assigned to each other."""
+    if not isinstance(node, ast.FunctionDef) or node.name != "__exit__":
+        return []
+    plain = (ast.Name, ast.Attribute, ast.Constant)
+    return ["L6 more than assignments in __exit__" for each in node.body
+            if not isinstance(each, (ast.Pass, ast.Assign)) or (
+                isinstance(each, ast.Assign) and not isinstance(each.value, plain))]
+
+
 def errors(node):
     found = []
     if isinstance(node, ast.ExceptHandler):
@@ -247,9 +257,26 @@ def values(node):
             found.append("L11 a loop over a set")
         if isinstance(over, ast.Call) and isinstance(over.func, ast.Name) and over.func.id == "set":
             found.append("L11 a loop over a set")
+    if isinstance(node, ast.BinOp) and isinstance(node.op, ast.Mod):
+        if not isinstance(node.left, ast.Call) or getattr(node.left.func, "id", "") not in ("len", "int", "sum", "abs"):
+            found.append("L7 a remainder of what may be no number")
+    if isinstance(node, ast.AugAssign) and not isinstance(node.value, ast.Constant):
+        found.append("L5 an in-place sign with more than a literal, beside __iadd__ and __isub__")
     if isinstance(node, ast.BinOp) and isinstance(node.op, ast.Pow) and not isinstance(node.right, ast.Constant):
         found.append("L27 an exponent that is no literal")
     return found
+
+
+def assigned_attributes(source):
+    """The pairs of a line and the name of an attribute that is assigned there."""
+    return [(node.lineno, node.attr) for node in ast.walk(ast.parse(source))
+            if isinstance(node, ast.Attribute) and not isinstance(node.ctx, ast.Load)]
+
+
+def properties(source):
+    """The names of the properties that the classes of a file define."""
+    return [node.name for node in ast.walk(ast.parse(source)) if isinstance(node, ast.FunctionDef)
+            and any(getattr(each, "id", "") == "property" for each in node.decorator_list)]
 
 
 def called_methods(source):

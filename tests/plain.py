@@ -151,3 +151,39 @@ def most(thing, state, one, other):
         if not crowd_tells(thing, state, one, other, many):
             return many - 1
     return None
+
+
+def hides(layout, number):
+    """Whether the layout's own state is an end of this team, though the other team has several hands."""
+    other = layout.second if number == 0 else layout.first
+    return layout.state in ends(layout, number) and len(other) > 1
+
+
+def records(layout):
+    return not set(ends(layout, 0)) & set(ends(layout, 1)) and not hides(layout, 0) and not hides(layout, 1)
+
+
+def fall_blots(layout):
+    """All fall blots, as tuples of two tuples, or of one and None."""
+    behind = {0: [], 1: []}
+    for order in orders(len(deeds(layout))):
+        _, state = done(layout.thing, layout.state, [deeds(layout)[each] for each in order])
+        behind[team(layout, order[0])].append((tuple(order), state))
+    found = [(one, other) for one, state in behind[0] for other, same in behind[1] if state == same]
+    for number, others in ((0, layout.second), (1, layout.first)):
+        found += [(order, None) for order, state in behind[number] if state == layout.state and len(others) > 1]
+    return found
+
+
+def crowd_records(thing, state, one, other, many):
+    """Whether the layout records with one hand of team 0, and so many of team 1; of any size."""
+    ends_of_one, ends_of_others = set(), set()
+    for others in range(many + 1):
+        ends_of_one.add(done(thing, state, [one] + [other] * others)[1])
+        if others > 0:
+            ends_of_others.add(done(thing, state, [other] * others)[1])
+            for at in range(1, others + 1):
+                word = [other] * others
+                word.insert(at, one)
+                ends_of_others.add(done(thing, state, word)[1])
+    return not ends_of_one & ends_of_others and not (state in ends_of_one and many > 1)

@@ -3,12 +3,18 @@
 import unittest
 
 from settlesfirst.building import exchanged, is_made_of, program_of, settle, trimmed
+from settlesfirst.claims import is_paper, is_true
+from settlesfirst.desk import Desk, tried
+from settlesfirst.falls import (
+    endless_with_falls, is_right_with_falls, power_with_falls, records, settle_with_falls, shortest_with_falls,
+)
 from settlesfirst.layouts import Layout
 from settlesfirst.makers import box, counter, is_box, keep, ladder, swap
 from settlesfirst.places import is_critical, layout_at, longest_open, next_names, outcomes
 from settlesfirst.power import endless, how_many, least_deeds, most, power, serving
 from settlesfirst.programs import Program
 from settlesfirst.telling import answers_tell, blotted, is_blot, is_unseen, shortest_blot, states_tell, tells, verdict
+from settlesfirst.texts import read_layout, text_of
 from settlesfirst.things import Thing, is_fold
 from settlesfirst.weavings import (
     behind, full_at, how_many_full, is_right, most_steps, named, quarrel, shortest_quarrel,
@@ -104,6 +110,32 @@ class StageSeven(unittest.TestCase):
         told = [is_right(made), is_made_of(made, [switch()]), settle(switch(), 3), trimmed(race()) == race(),
                 exchanged(race(), [1, 0]) == race()]
         self.assertEqual(told, [True, True, None, True, True])
+
+
+class StageEight(unittest.TestCase):
+    def test_falls(self):
+        pair, kept = Layout(switch(), 0, ["set"], ["set"]), keep(["x", "y"])
+        told = [records(pair), power_with_falls(switch()), power_with_falls(ladder(2)), power_with_falls(kept),
+                endless_with_falls(kept) == endless(kept)]
+        self.assertEqual(told, [False, 1, 2, 4, True])
+        told = [is_right_with_falls(race()), shortest_with_falls(race()),
+                is_right_with_falls(settle_with_falls(kept, 2)), settle_with_falls(switch(), 2)]
+        self.assertEqual(told, [False, 3, True, None])
+
+
+class StageNine(unittest.TestCase):
+    def test_texts_and_claims(self):
+        pair = Layout(switch(), 0, ["set"], ["set"])
+        told = [text_of(pair), read_layout(text_of(pair)) == pair, is_true(("no power", switch(), 3)),
+                is_paper(("wrong with falls", race()), [0, ("fall", 0), 0])]
+        text = "deeds set\nstate 0 1\nstate 1 1\nbegin 0\nteam set\nteam set\n"
+        self.assertEqual(told, [text, True, True, True])
+
+    def test_a_desk(self):
+        desk = Desk(switch())
+        told = [desk.do_all("power", "most 0 set set", "set 1 set 0 1", "power"),
+                tried(desk, lambda held: held.do("undo")), desk[1, "set"], desk.undo(), desk.do("tells 0 set / set")]
+        self.assertEqual(told, [["2", "1", "done", "1"], "done", (0, 1), None, "yes"])
 
 
 if __name__ == "__main__":

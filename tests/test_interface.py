@@ -36,6 +36,22 @@ FUNCTIONS = {
         "is_made_of": ["program", "things"], "trimmed": ["program"], "exchanged": ["program", "order"],
         "steps_of": ["program", "hand"],
     },
+    "falls": {
+        "records": ["layout"], "fall_blot": ["layout"], "is_fall_blot": ["layout", "value"],
+        "recording": ["thing", "number"], "power_with_falls": ["thing"], "endless_with_falls": ["thing"],
+        "behind_falls": ["program", "weaving"], "is_bad_with_falls": ["program", "weaving"],
+        "is_right_with_falls": ["program"], "quarrel_with_falls": ["program"],
+        "is_quarrel_with_falls": ["program", "value"], "shortest_with_falls": ["program"],
+        "program_with_falls": ["layout"], "settle_with_falls": ["thing", "number"],
+    },
+    "texts": {
+        "text_of": ["entry"], "bytes_of": ["entry"], "read_thing": ["text"], "read_layout": ["text"],
+        "read_program": ["text"],
+    },
+    "claims": {
+        "is_claim": ["value"], "is_true": ["claim"], "paper_of": ["claim"], "is_paper": ["claim", "value"],
+    },
+    "desk": {"tried": ["desk", "action"]},
 }
 
 CLASSES = {
@@ -58,6 +74,14 @@ CLASSES = {
     "programs": {
         "Program": {"__init__": ["things", "scripts"], "script": ["hand"], "__len__": None, "__eq__": None},
     },
+    "desk": {
+        "Desk": {
+            "__init__": ["thing"], "__getitem__": None, "__setitem__": None, "put": ["state", "deed", "entry"],
+            "__iadd__": None, "__isub__": None, "widen": ["deed", "entries"], "undo": [], "__len__": None,
+            "__contains__": None, "do": ["command"], "do_all": ["commands"],
+        },
+        "Trial": {"__init__": ["desk"], "__enter__": None, "__exit__": None},
+    },
 }
 
 STATIC = {"layouts": {"Layout": {"of_two": ["thing", "state", "one", "other"]}}}
@@ -66,6 +90,7 @@ PROPERTIES = {
     "things": {"Thing": ["deeds", "states"]},
     "layouts": {"Layout": ["thing", "state", "first", "second", "hands"]},
     "programs": {"Program": ["things", "hands"]},
+    "desk": {"Desk": ["thing"]},
 }
 
 GENERATORS = [("layouts", "Layout", "orders"), ("power", None, "telling_layouts")]

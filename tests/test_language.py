@@ -35,6 +35,23 @@ class Files(unittest.TestCase):
             for line, method in language.called_methods(source(name)):
                 self.assertIn(method, language.ALLOWED_METHODS.union(own), f"{name}:{line}: L25")
 
+    def test_no_property_is_assigned(self):
+        told = {each for name in files() for each in language.properties(source(name))}
+        self.assertIn("thing", told)
+        for name in files():
+            for line, attribute in language.assigned_attributes(source(name)):
+                self.assertNotIn(attribute, told, f"{name}:{line}: L5")
+
+    def test_a_name_is_not_a_method_and_an_attribute(self):
+        own = {method for name in files() for method in language.own_methods(source(name))}
+        for name in files():
+            for line, attribute in language.assigned_attributes(source(name)):
+                self.assertNotIn(attribute, own, f"{name}:{line}: L18")
+
+    def test_words_that_do_not_stand_beside_getitem(self):
+        for name in files():
+            self.assertIsNone(re.search(r"\(type\)|Meta|metaclass=", source(name)), f"{name}: L17")
+
     def test_names_are_imported_from_the_file_that_defines_them(self):
         for name in files():
             for module, told in language.imports_of(source(name)):
@@ -73,6 +90,7 @@ class Net(unittest.TestCase):
 
     def test_slips_are_caught(self):
         slips = {
+            "L6": "class C:\n    def __exit__(self, kind, value, trace):\n        self.shut()\n",
             "L2": "from random import choice\n",
             "L3": "print\n",
             "L4": "@cache\ndef f(n):\n    return n\n",
